@@ -1,0 +1,1 @@
+"""Weavelines: reckonings done side by side in the same cells."""
