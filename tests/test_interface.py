@@ -23,6 +23,28 @@ FUNCTIONS = {
         "harm": ["machine", "hands", "wishes"],
         "shows_harm": ["machine", "hands", "wishes", "value"],
     },
+    "needs": {
+        "needed": ["machine", "hands", "wishes"],
+        "needed_rows": ["machine", "hands", "wishes"],
+        "dealing_told": ["machine", "hands", "wishes"],
+    },
+    "dealings": {
+        "obeys": ["machine", "hands", "wishes", "dealing"],
+        "own_cells": ["machine", "dealing", "hand"],
+    },
+    "searches": {
+        "can_do": ["machine", "wishes", "dealing"],
+        "dealings": ["machine", "wishes"],
+        "can_be_woven": ["machine", "wishes"],
+        "woven_rows": ["machine", "wishes"],
+        "fewest_lines": ["machine", "wishes"],
+        "least_cells": ["machine", "wishes"],
+    },
+    "counts": {
+        "count_weavings": ["lengths"],
+        "right_weavings": ["machine", "hands", "wishes"],
+        "right_share": ["machine", "hands", "wishes"],
+    },
 }
 
 FIELDS = {

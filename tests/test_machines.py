@@ -3,24 +3,30 @@
 import unittest
 
 from tests import plain
+from weavelines.counts import right_share, right_weavings
+from weavelines.dealings import obeys
 from weavelines.errors import BadHands, BadMachine, BadMoments, BadTerm, BadWeaving, BadWishes, TooMany
 from weavelines.judges import harm, keeps, shows_harm
+from weavelines.needs import dealing_told, needed, needed_rows
 from weavelines.terms import term_text
 from weavelines.weavings import outcomes, run_weaving, standing, sure_terms
 
 MACHINE = (3, (1, 2))
 DEEPER = (0, 0, (0,))
 
-# Every function of machine and hands, its further arguments being right for one void row.
+# The functions of machine, hands and wishes alone that raise TooMany for hands.
+JUDGES = (keeps, harm, needed, needed_rows, dealing_told, right_weavings, right_share)
+
+
+# Every function of machine and hands, its further arguments being right for one void row and any machine, if they can.
 CALLS = [
     lambda machine, hands: run_weaving(machine, hands, ()),
     lambda machine, hands: standing(machine, hands, tuple(0 for _ in hands)),
     lambda machine, hands: outcomes(machine, hands),
     lambda machine, hands: sure_terms(machine, hands, 0),
-    lambda machine, hands: keeps(machine, hands, tuple(() for _ in hands)),
-    lambda machine, hands: harm(machine, hands, tuple(() for _ in hands)),
     lambda machine, hands: shows_harm(machine, hands, tuple(() for _ in hands), ()),
-]
+    lambda machine, hands: obeys(machine, hands, tuple(() for _ in hands), (0, 0)),
+] + [lambda machine, hands, call=call: call(machine, hands, tuple(() for _ in hands)) for call in JUDGES]
 
 
 class Machines(unittest.TestCase):
@@ -54,13 +60,13 @@ class Machines(unittest.TestCase):
 
 class Hands(unittest.TestCase):
     def bad(self, hands, hand, index, machine=MACHINE):
-        for call in (outcomes,
+        for call in [outcomes,
                      lambda machine, hands: run_weaving(machine, hands, ()),
                      lambda machine, hands: standing(machine, hands, ()),
                      lambda machine, hands: sure_terms(machine, hands, 0),
-                     lambda machine, hands: keeps(machine, hands, ()),
-                     lambda machine, hands: harm(machine, hands, ()),
-                     lambda machine, hands: shows_harm(machine, hands, (), ())):
+                     lambda machine, hands: shows_harm(machine, hands, (), ()),
+                     lambda machine, hands: obeys(machine, hands, (), ()),
+                     *[lambda machine, hands, call=call: call(machine, hands, ()) for call in JUDGES]]:
             with self.subTest(hands=hands), self.assertRaises(BadHands) as caught:
                 call(machine, hands)
             self.assertEqual((caught.exception.hand, caught.exception.index), (hand, index))
@@ -118,8 +124,9 @@ class TooDeep(unittest.TestCase):
         wishes = tuple(() for _ in hands)
         moments = tuple(0 for _ in hands)
         for call in (lambda: outcomes(machine, hands), lambda: standing(machine, hands, moments),
-                     lambda: sure_terms(machine, hands, 0), lambda: keeps(machine, hands, wishes),
-                     lambda: harm(machine, hands, wishes)):
+                     lambda: sure_terms(machine, hands, 0),
+                     lambda: obeys(machine, hands, wishes, (0,) * machine[0]),
+                     *[lambda call=call: call(machine, hands, wishes) for call in JUDGES]):
             with self.subTest(hands=hands), self.assertRaises(TooMany) as caught:
                 call()
             self.assertEqual(caught.exception.most, 8)

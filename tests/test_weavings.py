@@ -4,8 +4,11 @@ import unittest
 from itertools import product
 
 from tests import plain
+from weavelines.counts import right_share, right_weavings
+from weavelines.dealings import obeys
 from weavelines.errors import BadMoments, BadWeaving, BadWishes, TooMany
 from weavelines.judges import harm, keeps, shows_harm
+from weavelines.needs import dealing_told, needed, needed_rows
 from weavelines.weavings import outcomes, run_weaving, standing, sure_terms
 
 MACHINE = (3, (1, 2))
@@ -146,7 +149,9 @@ class TooWide(unittest.TestCase):
         ends = tuple(len(row) for row in hands)
         calls = [lambda: outcomes(WIDE, hands), lambda: standing(WIDE, hands, ends),
                  lambda: standing(WIDE, hands, (0,) * len(hands)), lambda: sure_terms(WIDE, hands, 0),
-                 lambda: keeps(WIDE, hands, wishes), lambda: harm(WIDE, hands, wishes)]
+                 lambda: obeys(WIDE, hands, wishes, (0, 0, 0, 0))]
+        for call in (keeps, harm, needed, needed_rows, dealing_told, right_weavings, right_share):
+            calls.append(lambda call=call: call(WIDE, hands, wishes))
         if len(hands) < 3:
             # A harm that shows at once doesn't keep the rest from being gone through.
             calls.append(lambda: harm(WIDE, hands + ((),), wishes + (((0, 1),),)))
@@ -175,6 +180,9 @@ class TooWide(unittest.TestCase):
         self.assertEqual(len(sure_terms(WIDE, WIDTH_3000, 1)), 9)
         self.assertTrue(keeps(WIDE, WIDTH_3000, ((), ((2, 2),), ((3, 3),))))
         self.assertIsNone(harm(WIDE, WIDTH_3000, ((), ((2, 2),), ((3, 3),))))
+        self.assertEqual(needed(WIDE, WIDTH_3000, ((), ((2, 2),), ((3, 3),))), ((), (), ()))
+        self.assertTrue(obeys(WIDE, WIDTH_3000[:1] + ((), ()), ((), (), ()), (0, 0, 0, 0)))
+        self.assertEqual(right_share(WIDE, WIDTH_3000, ((), ((2, 2),), ((3, 3),))), (1, 1))
 
     def test_where_it_does_not_count(self):
         weaving = (0, 1) * 5 + (1,) * 5

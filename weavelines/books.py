@@ -8,7 +8,9 @@ class TermBook:
     """Numbers the terms that are made.
 
     Equal terms have equal numbers: so terms of any depth are compared at
-    once, and tuples of them are keys that are never nested deep.
+    once, and tuples of them are keys that are never nested deep. A cell's
+    atom has the cell's number; makings tell of each other term's number the
+    function and the numbers of its parts.
     """
 
     def __init__(self, machine):
@@ -16,6 +18,7 @@ class TermBook:
         self.atoms = tuple(range(cells))
         self.terms = list(range(cells))
         self.depths = [1] * cells
+        self.makings = [None] * cells
         self.numbers = {}
 
     def made(self, function, parts):
@@ -25,12 +28,18 @@ class TermBook:
             self.numbers[key] = len(self.terms)
             self.terms.append((function, *[self.terms[part] for part in parts]))
             self.depths.append(1 + max([self.depths[part] for part in parts]))
+            self.makings.append(key)
         return self.numbers[key]
 
     def number_of(self, term):
         if not isinstance(term, tuple):
             return term
         return self.made(term[0], tuple([self.number_of(part) for part in term[1:]]))
+
+
+def numbered(book, wishes):
+    """Wishes with the numbers of their terms in the book."""
+    return [[(cell, book.number_of(term)) for cell, term in row] for row in wishes]
 
 
 class DepthBook:

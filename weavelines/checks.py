@@ -1,6 +1,6 @@
-"""What machines, terms, hands, weavings, moments and wishes must be."""
+"""What machines, terms, hands, weavings, moments, wishes, dealings and lengths must be."""
 
-from weavelines.errors import BadHands, BadMachine, BadMoments, BadWeaving, BadWishes
+from weavelines.errors import BadDealing, BadHands, BadMachine, BadMoments, BadNumber, BadWeaving, BadWishes
 
 MOST_CELLS = 4
 MOST_FUNCTIONS = 3
@@ -8,6 +8,7 @@ MOST_READ = 2
 MOST_HANDS = 3
 MOST_LINES = 12
 DEEPEST = 8
+COMMON = "common"
 
 
 def is_between(value, low, high):
@@ -109,6 +110,17 @@ def is_wish(machine, value):
 def check_wishes(machine, hands, wishes):
     if not is_tuple(wishes, len(hands), len(hands)):
         raise BadWishes(None, None)
+    check_wish_rows(machine, wishes)
+
+
+def check_free_wishes(machine, wishes):
+    """Checks wishes that come without hands."""
+    if not is_tuple(wishes, 1, MOST_HANDS):
+        raise BadWishes(None, None)
+    check_wish_rows(machine, wishes)
+
+
+def check_wish_rows(machine, wishes):
     for hand, row in enumerate(wishes):
         if not isinstance(row, tuple):
             raise BadWishes(hand, None)
@@ -117,3 +129,25 @@ def check_wishes(machine, hands, wishes):
                 raise BadWishes(hand, index)
             if index > 0 and wish[0] <= row[index - 1][0]:
                 raise BadWishes(hand, index)
+
+
+def is_place(machine, many, value):
+    """Whether a value tells whose a cell is: one of many hands', or all hands'."""
+    if not isinstance(value, tuple):
+        return is_number(value, many)
+    return len(value) == 2 and value[0] == COMMON and is_term(machine, value[1])
+
+
+def check_dealing(machine, many, dealing):
+    """Checks a dealing of the machine's cells to so many hands."""
+    if not is_tuple(dealing, machine[0], machine[0]):
+        raise BadDealing()
+    if not all([is_place(machine, many, place) for place in dealing]):
+        raise BadDealing()
+
+
+def check_lengths(lengths):
+    if not is_tuple(lengths, 1, MOST_HANDS):
+        raise BadNumber()
+    if not all([is_between(length, 0, MOST_LINES) for length in lengths]):
+        raise BadNumber()

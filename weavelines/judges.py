@@ -1,6 +1,6 @@
 """Whether hands' wishes are kept, whatever the weaving."""
 
-from weavelines.books import TermBook, held_behind
+from weavelines.books import TermBook, held_behind, numbered
 from weavelines.checks import check_hands, check_machine, check_wishes, is_weaving
 from weavelines.walks import check_depth, check_width, layers
 
@@ -32,11 +32,6 @@ def check_judged(machine, hands, wishes):
     check_machine(machine)
     check_hands(machine, hands)
     check_wishes(machine, hands, wishes)
-
-
-def numbered(book, wishes):
-    """Wishes with the numbers of their terms in the book."""
-    return [[(cell, book.number_of(term)) for cell, term in row] for row in wishes]
 
 
 def due_wishes(hands, wished, moments):

@@ -6,7 +6,7 @@ of the hands' numbers (strings of one length stand in the sequence in which
 the weavings do, and take little room).
 """
 
-from weavelines.books import DepthBook, held_after
+from weavelines.books import DepthBook, TermBook, held_after
 from weavelines.errors import TooMany
 
 MOST_HELD = 3000
@@ -62,3 +62,10 @@ def check_width(layer):
     for ways in layer.values():
         if len(ways) > MOST_HELD:
             raise TooMany(MOST_HELD)
+
+
+def check_limits(machine, hands):
+    """Raises the TooMany that is raised wherever hands are an argument."""
+    check_depth(machine, hands)
+    for layer in layers(TermBook(machine), hands):
+        check_width(layer)
