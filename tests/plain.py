@@ -1,6 +1,7 @@
 """Plain enumerations to hold the program's answers against, and hands to try."""
 
 import random
+from itertools import product
 
 
 def all_weavings(hands):
@@ -74,6 +75,51 @@ def least_harm(machine, hands, wishes):
         if harmed(machine, hands, wishes, weaving):
             return weaving
     return None
+
+
+def lossy_states(machine, hands, many):
+    """For every weaving with every line lost or not as may be: the weaving, which were lost, what the cells hold."""
+    found = [((), (), tuple(range(machine[0])))]
+    for weaving, lost, held in found:
+        for hand, row in enumerate(hands):
+            done = weaving.count(hand)
+            if done < len(row):
+                cell, function, sources = row[done]
+                parts = tuple(held[source] for source in sources)
+                new = parts[0] if function is None else (function,) + parts
+                found.append((weaving + (hand,), lost + (False,), held[:cell] + (new,) + held[cell + 1:]))
+                of_hand = [was_lost for doer, was_lost in zip(weaving, lost) if doer == hand]
+                if len(of_hand) < many or False in of_hand[len(of_hand) - many:]:
+                    found.append((weaving + (hand,), lost + (True,), held))
+    return found
+
+
+def sturdy(machine, hands, many, wishes):
+    """Whether the wishes are kept whatever the weaving, and whatever is lost."""
+    for weaving, _, held in lossy_states(machine, hands, many):
+        for hand, row in enumerate(hands):
+            if weaving.count(hand) == len(row) and any(held[cell] != term for cell, term in wishes[hand]):
+                return False
+    return True
+
+
+def lossy_widths(machine, hands, many):
+    """For all moments, how many unlike tuples the cells can hold with how many lines each hand lost last."""
+    void = (0,) * len(hands)
+    found = {void: {(tuple(range(machine[0])), void)}}
+    for moments in product(*[range(len(row) + 1) for row in hands]):
+        for hand, row in enumerate(hands):
+            if moments[hand] < len(row):
+                later = moments[:hand] + (moments[hand] + 1,) + moments[hand + 1:]
+                cell, function, sources = row[moments[hand]]
+                for held, lost in found[moments]:
+                    parts = tuple(held[source] for source in sources)
+                    new = parts[0] if function is None else (function,) + parts
+                    ways = found.setdefault(later, set())
+                    ways.add((held[:cell] + (new,) + held[cell + 1:], lost[:hand] + (0,) + lost[hand + 1:]))
+                    if lost[hand] < many:
+                        ways.add((held, lost[:hand] + (lost[hand] + 1,) + lost[hand + 1:]))
+    return {moments: len(ways) for moments, ways in found.items()}
 
 
 def some_line(chance, machine):

@@ -69,12 +69,18 @@ def keeps_to(machine, row, wished, dealing, hand):
     return all(may_read(dealing, hand, cell, was_set) and held[cell] == term for cell, term in wished)
 
 
-def shortest(machine, wished, dealing, hand, most=5000):
+def sturdy_lines(machine):
+    """The lines that don't read the cell that they set."""
+    return [line for line in all_lines(machine) if line[0] not in line[2]]
+
+
+def shortest(machine, wished, dealing, hand, lines_of=all_lines, most=5000):
     """How many lines the shortest row has with which a hand keeps to a dealing, None without one.
 
-    It goes forward through all that such rows can lead to; only what is
-    deeper than all that is wished is left out, since it is part of no wish.
-    OverflowError where that is too much to go through.
+    Only rows of the lines that lines_of tells count. It goes forward through
+    all that such rows can lead to; only what is deeper than all that is wished
+    is left out, since it is part of no wish. OverflowError where that is too
+    much to go through.
     """
     deepest = max([plain.depth(term) for _, term in wished], default=0)
     start = (tuple(range(machine[0])), frozenset())
@@ -85,15 +91,15 @@ def shortest(machine, wished, dealing, hand, most=5000):
         for held, was_set in layer:
             if all(may_read(dealing, hand, cell, was_set) and held[cell] == term for cell, term in wished):
                 return length
-        layer = list(after(machine, layer, dealing, hand, deepest, seen))
+        layer = list(after(lines_of(machine), layer, dealing, hand, deepest, seen))
         length += 1
         if len(seen) > most:
             raise OverflowError
     return None
 
 
-def after(machine, layer, dealing, hand, deepest, seen):
-    lines = [line for line in all_lines(machine) if dealing[line[0]] == hand or
+def after(lines, layer, dealing, hand, deepest, seen):
+    lines = [line for line in lines if dealing[line[0]] == hand or
              isinstance(dealing[line[0]], tuple) and dealing[line[0]] != ("common", line[0])]
     for held, was_set in layer:
         for cell, function, sources in lines:
@@ -109,10 +115,12 @@ def after(machine, layer, dealing, hand, deepest, seen):
                 yield state
 
 
-def shortest_alone(machine, wished, own):
+def shortest_alone(machine, wished, own, is_sturdy=False):
     """How many lines the shortest row has for which just these cells are set, None without one.
 
-    It goes forward like shortest, but lets cells hold parts of the wishes alone, else None.
+    If is_sturdy, only lines that don't read the cell that they set count. It
+    goes forward like shortest, but lets cells hold parts of the wishes alone,
+    else None.
     """
     wanted = parts_wished(wished)
     start = tuple(cell if cell in wanted else None for cell in range(machine[0]))
@@ -124,12 +132,14 @@ def shortest_alone(machine, wished, own):
             return length
         further = []
         for held in layer:
-            made = {term for term in wanted if isinstance(term, tuple) and all(part in held for part in term[1:])}
-            for cell, new in product(own, (made | set(held)) - {None}):
-                after_line = held[:cell] + (new,) + held[cell + 1:]
-                if after_line not in seen:
-                    seen.add(after_line)
-                    further.append(after_line)
+            for cell in own:
+                read = held[:cell] + held[cell + 1:] if is_sturdy else held
+                made = {term for term in wanted if isinstance(term, tuple) and all(part in read for part in term[1:])}
+                for new in (made | set(held)) - {None}:
+                    after_line = held[:cell] + (new,) + held[cell + 1:]
+                    if after_line not in seen:
+                        seen.add(after_line)
+                        further.append(after_line)
         layer = further
         length += 1
     return None

@@ -45,6 +45,22 @@ FUNCTIONS = {
         "right_weavings": ["machine", "hands", "wishes"],
         "right_share": ["machine", "hands", "wishes"],
     },
+    "losses": {
+        "is_sturdy": ["machine", "hands", "many", "wishes"],
+        "can_be_sturdy": ["machine", "wishes"],
+        "sturdy_rows": ["machine", "many", "wishes"],
+    },
+    "handtexts": {
+        "read_term": ["machine", "text"],
+        "write_hands": ["machine", "hands"],
+        "read_hands": ["text"],
+    },
+}
+
+# For each class its file, the arguments it is set up with, its methods with theirs, and its properties.
+CLASSES = {
+    "Weaver": ("benches", ["machine", "hands"], {"do": ["hand"], "undo": []}, ["holds", "moments", "weaving"]),
+    "Desk": ("desks", [], {"take_hands": ["text"], "say": ["line"]}, []),
 }
 
 FIELDS = {
@@ -70,6 +86,24 @@ class Interface(unittest.TestCase):
                     told = inspect.signature(getattr(module, function)).parameters.values()
                     self.assertEqual([one.name for one in told], arguments)
                     self.assertTrue(all(one.default is one.empty for one in told))
+
+    def test_classes(self):
+        for name, (file, arguments, methods, properties) in CLASSES.items():
+            with self.subTest(name=name):
+                self.assertIn(name, defined(file, ast.ClassDef))
+                kind = getattr(import_module("weavelines." + file), name)
+                self.assertEqual(kind.__bases__, (object,))
+                self.arguments(kind.__init__, arguments)
+                for method, told in methods.items():
+                    self.assertTrue(inspect.isfunction(vars(kind)[method]))
+                    self.arguments(vars(kind)[method], told)
+                for told in properties:
+                    self.assertIsInstance(vars(kind)[told], property)
+
+    def arguments(self, method, names):
+        told = list(inspect.signature(method).parameters.values())
+        self.assertEqual([one.name for one in told[1:]], names)
+        self.assertTrue(all(one.default is one.empty for one in told))
 
     def test_errors(self):
         names = defined("errors", ast.ClassDef)

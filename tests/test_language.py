@@ -127,6 +127,26 @@ class Names(unittest.TestCase):
             if isinstance(node.func, ast.Attribute):
                 self.assertIn(node.func.attr, METHODS | own, (name, node.lineno))
 
+    def test_classes(self):
+        for name, node in nodes(ast.ClassDef):
+            stored = {told.attr for told in ast.walk(node)
+                      if isinstance(told, ast.Attribute) and isinstance(told.ctx, ast.Store)}
+            for part in node.body:
+                docstring = isinstance(part, ast.Expr) and isinstance(part.value, ast.Constant)
+                self.assertTrue(docstring or isinstance(part, ast.FunctionDef), (name, part.lineno))
+                if isinstance(part, ast.FunctionDef):
+                    self.assertNotIn(part.name, stored | METHODS - {"__init__"}, (name, part.lineno))
+
+    def test_decorators(self):
+        for name, node in nodes(ast.FunctionDef):
+            self.assertLessEqual([told.id for told in node.decorator_list], ["property"], (name, node.lineno))
+            if node.decorator_list:
+                self.assertEqual([told.arg for told in node.args.args], ["self"])
+                self.assertIsInstance(node.body[-1], ast.Return)
+                for told in ast.walk(node):
+                    if isinstance(told, (ast.Attribute, ast.Subscript)):
+                        self.assertIsInstance(told.ctx, ast.Load, (name, told.lineno))
+
     def test_constants(self):
         for name, node in nodes(ast.Constant):
             self.assertNotIsInstance(node.value, (float, complex), (name, node.lineno))

@@ -1,12 +1,15 @@
-"""Points 1 and 2: machines, hands, their errors, and which of more errors is raised."""
+"""Points 1 and 2: machines, hands, their errors."""
 
 import unittest
 
 from tests import plain
+from weavelines.benches import Weaver
 from weavelines.counts import right_share, right_weavings
 from weavelines.dealings import obeys
-from weavelines.errors import BadHands, BadMachine, BadMoments, BadTerm, BadWeaving, BadWishes, TooMany
+from weavelines.errors import BadHands, BadMachine, TooMany
+from weavelines.handtexts import read_hands, write_hands
 from weavelines.judges import harm, keeps, shows_harm
+from weavelines.losses import is_sturdy
 from weavelines.needs import dealing_told, needed, needed_rows
 from weavelines.terms import term_text
 from weavelines.weavings import outcomes, run_weaving, standing, sure_terms
@@ -26,6 +29,9 @@ CALLS = [
     lambda machine, hands: sure_terms(machine, hands, 0),
     lambda machine, hands: shows_harm(machine, hands, tuple(() for _ in hands), ()),
     lambda machine, hands: obeys(machine, hands, tuple(() for _ in hands), (0, 0)),
+    lambda machine, hands: is_sturdy(machine, hands, 1, tuple(() for _ in hands)),
+    write_hands,
+    Weaver,
 ] + [lambda machine, hands, call=call: call(machine, hands, tuple(() for _ in hands)) for call in JUDGES]
 
 
@@ -66,6 +72,8 @@ class Hands(unittest.TestCase):
                      lambda machine, hands: sure_terms(machine, hands, 0),
                      lambda machine, hands: shows_harm(machine, hands, (), ()),
                      lambda machine, hands: obeys(machine, hands, (), ()),
+                     lambda machine, hands: is_sturdy(machine, hands, 0, ()),
+                     write_hands, Weaver,
                      *[lambda machine, hands, call=call: call(machine, hands, ()) for call in JUDGES]]:
             with self.subTest(hands=hands), self.assertRaises(BadHands) as caught:
                 call(machine, hands)
@@ -92,7 +100,8 @@ class Hands(unittest.TestCase):
     def test_line(self):
         wrong = plain.ODD + [
             (), (0,), (0, 0), (0, 0, (0,), 0), [0, 0, (0,)],
-            (3, 0, (0,)), (-1, 0, (0,)), (True, 0, (0,)), (None, 0, (0,)), ("0", 0, (0,)), ((0,), 0, (0,)), ([], 0, (0,)),
+            (3, 0, (0,)), (-1, 0, (0,)), (True, 0, (0,)), (None, 0, (0,)), ("0", 0, (0,)), ((0,), 0, (0,)),
+            ([], 0, (0,)),
             (0, 2, (0,)), (0, -1, (0,)), (0, False, (0,)), (0, True, (0, 0)), (0, "0", (0,)), (0, (0,), (0,)),
             (0, [], (0,)), (0, {}, (0,)),
             (0, 0, 0), (0, 0, ()), (0, 0, (0, 0)), (0, 0, [0]), (0, 0, (3,)), (0, 0, (-1,)), (0, 0, (True,)),
@@ -126,12 +135,15 @@ class TooDeep(unittest.TestCase):
         for call in (lambda: outcomes(machine, hands), lambda: standing(machine, hands, moments),
                      lambda: sure_terms(machine, hands, 0),
                      lambda: obeys(machine, hands, wishes, (0,) * machine[0]),
+                     lambda: is_sturdy(machine, hands, 1, wishes),
                      *[lambda call=call: call(machine, hands, wishes) for call in JUDGES]):
             with self.subTest(hands=hands), self.assertRaises(TooMany) as caught:
                 call()
             self.assertEqual(caught.exception.most, 8)
         self.assertEqual(run_weaving(machine, hands, ()), tuple(range(machine[0])))
         self.assertFalse(shows_harm(machine, hands, wishes, ()))
+        self.assertEqual(Weaver(machine, hands).holds, tuple(range(machine[0])))
+        self.assertEqual(read_hands(write_hands(machine, hands)), (machine, hands))
 
     def not_too_deep(self, machine, hands):
         wishes = tuple(() for _ in hands)
@@ -184,34 +196,6 @@ class TooDeep(unittest.TestCase):
         for last in ((2, 1, (1, 0)), (2, 1, (0, 1)), (2, 0, (0,))):
             with self.assertRaises(TooMany):
                 run_weaving(MACHINE, ((DEEPER,) * 7 + (last,),), (0,) * 8)
-
-
-class Sequence(unittest.TestCase):
-    """Of more errors the one for the leftmost argument; TooMany behind all others."""
-
-    def test_leftmost(self):
-        deep = ((DEEPER,) * 8,)
-        rows = [
-            (BadMachine, lambda: run_weaving(None, None, None)),
-            (BadHands, lambda: run_weaving(MACHINE, None, None)),
-            (BadWeaving, lambda: run_weaving(MACHINE, deep, (0,) * 9)),
-            (BadMachine, lambda: standing(None, None, None)),
-            (BadHands, lambda: standing(MACHINE, None, None)),
-            (BadMoments, lambda: standing(MACHINE, deep, None)),
-            (BadMachine, lambda: outcomes(None, None)),
-            (BadMachine, lambda: sure_terms(None, None, None)),
-            (BadHands, lambda: sure_terms(MACHINE, None, None)),
-            (BadWeaving, lambda: sure_terms(MACHINE, deep, None)),
-            (BadMachine, lambda: term_text(None, None)),
-            (BadTerm, lambda: term_text(MACHINE, None)),
-        ]
-        for call in (keeps, harm, lambda *most: shows_harm(*most, None)):
-            rows.append((BadMachine, lambda call=call: call(None, None, None)))
-            rows.append((BadHands, lambda call=call: call(MACHINE, None, None)))
-            rows.append((BadWishes, lambda call=call: call(MACHINE, deep, None)))
-        for number, (error, call) in enumerate(rows):
-            with self.subTest(number=number), self.assertRaises(error):
-                call()
 
 
 if __name__ == "__main__":

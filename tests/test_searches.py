@@ -28,23 +28,29 @@ def free_wishes(many, seed):
 
 
 class Told:
-    """What plain searches tell of wishes: the dealings in which all can, and the fewest lines in all."""
+    """What plain searches tell of wishes, if rows are of the lines that lines_of tells.
 
-    def __init__(self, machine, wishes):
+    That is the dealings in which all can, the fewest lines in all, and how
+    long the longest row must be then.
+    """
+
+    def __init__(self, machine, wishes, lines_of=plainsearch.all_lines):
         self.dealings = []
         self.fewest = None
         lengths = {}
+        sizes = []
         for dealing in plainsearch.looked_at(machine, wishes):
             found = []
             for hand, wished in enumerate(wishes):
                 key = (hand, tuple(place if isinstance(place, tuple) else place == hand for place in dealing))
                 if key not in lengths:
-                    lengths[key] = plainsearch.shortest(machine, wished, dealing, hand)
+                    lengths[key] = plainsearch.shortest(machine, wished, dealing, hand, lines_of)
                 found.append(lengths[key])
             if None not in found:
                 self.dealings.append(dealing)
-                if self.fewest is None or sum(found) < self.fewest:
-                    self.fewest = sum(found)
+                sizes.append((sum(found), max(found)))
+        if sizes:
+            self.fewest, self.longest = min(sizes)
 
 
 class AgainstPlainSearches(unittest.TestCase):

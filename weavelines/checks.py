@@ -1,12 +1,13 @@
-"""What machines, terms, hands, weavings, moments, wishes, dealings and lengths must be."""
+"""What machines, terms, hands, weavings, moments, wishes, dealings, numbers and strings must be."""
 
-from weavelines.errors import BadDealing, BadHands, BadMachine, BadMoments, BadNumber, BadWeaving, BadWishes
+from weavelines.errors import BadDealing, BadHands, BadMachine, BadMoments, BadNumber, BadString, BadWeaving, BadWishes
 
 MOST_CELLS = 4
 MOST_FUNCTIONS = 3
 MOST_READ = 2
 MOST_HANDS = 3
 MOST_LINES = 12
+MOST_LOST = 3
 DEEPEST = 8
 COMMON = "common"
 
@@ -151,3 +152,14 @@ def check_lengths(lengths):
         raise BadNumber()
     if not all([is_between(length, 0, MOST_LINES) for length in lengths]):
         raise BadNumber()
+
+
+def check_many(many):
+    """Checks how many lines, one behind another, may be lost of a row."""
+    if not is_between(many, 1, MOST_LOST):
+        raise BadNumber()
+
+
+def check_string(text):
+    if not isinstance(text, str):
+        raise BadString()

@@ -25,14 +25,25 @@ def is_dealt(table, places, dealing=()):
 
 
 def best_rows(table, places):
-    """All hands' rows of as few lines in all as any dealing lets them have, None without any."""
+    """All hands' rows of as few lines in all as any dealing lets them have, None without any.
+
+    Among these the longest row is as short as any.
+    """
     best = None
     for dealing in all_choices(places):
         rows = table.rows(dealing)
-        if None not in rows and (best is None or count_lines(rows) < count_lines(best)):
+        if None not in rows and (best is None or sizes(rows) < sizes(best)):
             best = rows
     return best
 
 
+def sizes(rows):
+    return (count_lines(rows), longest(rows))
+
+
 def count_lines(rows):
     return sum([len(row) for row in rows])
+
+
+def longest(rows):
+    return max([len(row) for row in rows])

@@ -32,12 +32,7 @@ def can_be_woven(machine, wishes):
 
 def woven_rows(machine, wishes):
     """Hands' rows of as few lines in all as any that keep the wishes."""
-    table = wish_table(machine, wishes)
-    # NoDealing comes ahead of TooMany, so this is found out without a limit.
-    if not is_dealt(table, useful_places(table)):
-        raise NoDealing()
-    check_searched(table)
-    return tuple(best_rows(table, useful_places(table)))
+    return tuple(dealt_rows(wish_table(machine, wishes)))
 
 
 def fewest_lines(machine, wishes):
@@ -57,17 +52,26 @@ def least_cells(machine, wishes):
     return (fewest_cells(machine, wishes, least, True), fewest_cells(machine, wishes, least, False))
 
 
-def wish_table(machine, wishes):
+def wish_table(machine, wishes, sturdy_only=False):
     """The table of wishes that come without hands."""
     check_machine(machine)
     check_free_wishes(machine, wishes)
-    return WishTable(machine, wishes)
+    return WishTable(machine, wishes, sturdy_only)
 
 
-def searched_table(machine, wishes):
-    table = wish_table(machine, wishes)
+def searched_table(machine, wishes, sturdy_only=False):
+    table = wish_table(machine, wishes, sturdy_only)
     check_searched(table)
     return table
+
+
+def dealt_rows(table):
+    """The rows that best_rows tells; NoDealing without any."""
+    # NoDealing comes ahead of TooMany, so this is found out without a limit.
+    if not is_dealt(table, useful_places(table)):
+        raise NoDealing()
+    check_searched(table)
+    return best_rows(table, useful_places(table))
 
 
 def check_searched(table):

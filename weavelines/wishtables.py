@@ -12,10 +12,11 @@ MOST_PARTS = 12
 
 
 class WishTable:
-    """Wishes, the parts of each hand's, and the rows that were found for them."""
+    """Wishes, the parts of each hand's, and the rows, sturdy ones or any, that were found for them."""
 
-    def __init__(self, machine, wishes):
+    def __init__(self, machine, wishes, sturdy_only=False):
         self.cells = machine[0]
+        self.sturdy_only = sturdy_only
         self.book = TermBook(machine)
         self.wished = numbered(self.book, wishes)
         self.parts = [parts_of(self.book, row) for row in self.wished]
@@ -38,7 +39,7 @@ class WishTable:
         """A row of as few lines as any with which a hand keeps to a dealing, None without one."""
         view = self.view(hand, dealing)
         if (hand, view) not in self.found:
-            self.found[(hand, view)] = fewest_row(self.book, view, self.wished[hand])
+            self.found[(hand, view)] = fewest_row(self.book, view, self.wished[hand], self.sturdy_only)
         return self.found[(hand, view)]
 
     def rows(self, dealing):
